@@ -30,3 +30,30 @@ def need_row(value):
     # The words show nothing of the value: writing it out could fail itself (a number of very many figures).
     if not is_row(value):
         raise BadRow("a row is a list of the numbers from 0 on, as many as it has things, each once")
+
+
+def are_parts(many, told):
+    # Lists of one or more of so many things, none twice, some perhaps in none.
+    if not isinstance(told, list):
+        return False
+    met = [False] * many
+    for part in told:
+        if not isinstance(part, list) or len(part) == 0:
+            return False
+        for thing in part:
+            if not first_met(thing, met):
+                return False
+    return True
+
+
+def are_whole_parts(many, told):
+    # None is there twice, so no thing is left out if there are as many.
+    return are_parts(many, told) and sum([len(part) for part in told]) == many
+
+
+def is_pair(value):
+    return isinstance(value, tuple) and len(value) == 2 and is_whole(value[0]) and is_whole(value[1])
+
+
+def are_pairs(value):
+    return isinstance(value, list) and all([is_pair(pair) for pair in value])

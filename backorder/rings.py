@@ -1,6 +1,6 @@
 """The rings of a row, the row of told rings, and what the rings make quick: many times at once, the turns."""
 
-from backorder.checks import first_met, is_whole, need_row
+from backorder.checks import are_parts, is_whole, need_row
 from backorder.errors import BadNumber, BadRings
 
 MOST_THINGS = 1000000
@@ -36,28 +36,19 @@ def set_ring(row, ring, steps):
         row[thing] = later
 
 
-def are_rings(many, told):
-    if not isinstance(told, list):
-        return False
-    met = [False] * many
+def row_of(many, told):
+    row = list(range(many))
     for ring in told:
-        if not isinstance(ring, list) or len(ring) == 0:
-            return False
-        for thing in ring:
-            if not first_met(thing, met):
-                return False
-    return True
+        set_ring(row, ring, 1)
+    return row
 
 
 def of_rings(many, told):
     if not is_whole(many) or not 0 <= many <= MOST_THINGS:
         raise BadNumber("a count of things is a whole number from 0 to 1000000")
-    if not are_rings(many, told):
+    if not are_parts(many, told):
         raise BadRings("rings are a list of lists of one or more things of the row, none twice")
-    row = list(range(many))
-    for ring in told:
-        set_ring(row, ring, 1)
-    return row
+    return row_of(many, told)
 
 
 def greatest_shared(one, other):

@@ -1,4 +1,4 @@
-"""Rows as doings: one behind the other, back again, and the pairs of a row that stand wrong."""
+"""Rows as doings: one behind the other, back again; the pairs of a row that stand wrong, and its runs."""
 
 from backorder.checks import need_row
 from backorder.errors import Unlike
@@ -12,12 +12,16 @@ def behind(one, other):
     return [one[place] for place in other]
 
 
-def back(row):
-    need_row(row)
+def back_of(row):
     told = [0] * len(row)
     for place, thing in enumerate(row):
         told[thing] = place
     return told
+
+
+def back(row):
+    need_row(row)
+    return back_of(row)
 
 
 def wrong_by_last_bit(numbers):
@@ -44,3 +48,15 @@ def wrong(row):
         numbers = [number >> 1 for number in numbers]
         greatest = greatest >> 1
     return pairs
+
+
+def run_lengths(row):
+    # For each thing, how long the longest run is that ends with it.
+    lengths = []
+    length = 0
+    earlier = -1
+    for place in back_of(row):
+        length = length + 1 if place > earlier else 1
+        lengths.append(length)
+        earlier = place
+    return lengths
